@@ -65,7 +65,7 @@ func TestAnswersAreNewMemory(t *testing.T) {
 		_, rest, _ := impl.DivWholes(a, wholeFrom(greatest()))
 		nearest, _ := impl.RoundWholes(a, impl.WholeOf(1))
 		self, left, _ := impl.DivWholes(a, a)
-		answers := []impl.Whole{sum, other, product, quotient, rest, nearest, self, left}
+		answers := limbLists([]impl.Whole{sum, other, product, quotient, rest, nearest, self, left})
 		if !apart(answers) {
 			t.Errorf("answers of %v share memory", a)
 		}

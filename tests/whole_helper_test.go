@@ -267,67 +267,30 @@ func checkModWord(t *testing.T, a impl.Whole, m int) {
 	})
 }
 
-// checkCall makes the call with each argument laid into memory of its own that goes on behind it, and looks at that memory again, also once the answer is written over.
+// checkCall makes the call, and looks after the memory of its arguments and of its answer.
 func checkCall(t *testing.T, call string, want outcome, args []impl.Whole, f func([]impl.Whole) outcome) {
 	t.Helper()
-	for _, behind := range []int{-1, 5} {
-		laid, memory, before := layOut(args, behind)
-		mustAnswer(t, call, func() {
-			got := f(laid)
-			if !got.same(want) {
-				t.Errorf("%s = %v, want %v", call, got, want)
-			}
-			if !slices.EqualFunc(memory, before, slices.Equal[[]int]) {
-				t.Errorf("%s writes into an argument", call)
-			}
-			if !apart(got.Wholes) {
-				t.Errorf("%s tells two lists that share memory", call)
-			}
-			scribble(got.Wholes, -77)
-			if !slices.EqualFunc(memory, before, slices.Equal[[]int]) {
-				t.Errorf("%s shares memory with an argument", call)
-			}
-		})
-	}
+	checkMemory(t, call, limbLists(args), func(laid [][]int) [][]int {
+		got := f(withLimbs(args, laid))
+		if !got.same(want) {
+			t.Errorf("%s = %v, want %v", call, got, want)
+		}
+		return limbLists(got.Wholes)
+	})
 }
 
-// layOut copies the numbers into greater lists; what lies behind a number there is filled with one limb.
-func layOut(args []impl.Whole, behind int) ([]impl.Whole, [][]int, [][]int) {
-	var laid []impl.Whole
-	var memory, before [][]int
-	for _, a := range args {
-		all := append(slices.Clone(a.Limbs), slices.Repeat([]int{behind}, 3)...)
-		laid = append(laid, impl.Whole{Neg: a.Neg, Limbs: all[:len(a.Limbs)]})
-		memory = append(memory, all)
-		before = append(before, slices.Clone(all))
-	}
-	return laid, memory, before
-}
-
-// scribble writes over all that an answer hands out, also behind its length.
-func scribble(wholes []impl.Whole, n int) {
+func limbLists(wholes []impl.Whole) [][]int {
+	var lists [][]int
 	for _, a := range wholes {
-		all := a.Limbs[:cap(a.Limbs)]
-		for i := range all {
-			all[i] = n
-		}
+		lists = append(lists, a.Limbs)
 	}
+	return lists
 }
 
-// apart writes another number over each list, and asks whether all stay; it writes back what was there.
-func apart(wholes []impl.Whole) bool {
-	var kept [][]int
+func withLimbs(wholes []impl.Whole, lists [][]int) []impl.Whole {
+	var with []impl.Whole
 	for i, a := range wholes {
-		kept = append(kept, slices.Clone(a.Limbs[:cap(a.Limbs)]))
-		scribble(wholes[i:i+1], -100-i)
+		with = append(with, impl.Whole{Neg: a.Neg, Limbs: lists[i]})
 	}
-	same := true
-	for i, a := range wholes {
-		all := a.Limbs[:cap(a.Limbs)]
-		for k := range all {
-			same = same && all[k] == -100-i
-		}
-		copy(all, kept[i])
-	}
-	return same
+	return with
 }

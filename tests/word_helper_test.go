@@ -3,7 +3,6 @@ package tests
 import (
 	"math"
 	"math/big"
-	"testing"
 
 	"loop.example/g00133/impl"
 )
@@ -161,15 +160,4 @@ func sieve(n int) []bool {
 		}
 	}
 	return prime
-}
-
-// mustAnswer runs f and makes a panic in it a failure that names the call.
-func mustAnswer(t *testing.T, call string, f func()) {
-	t.Helper()
-	defer func() {
-		if fault := recover(); fault != nil {
-			t.Errorf("%s panics: %v", call, fault)
-		}
-	}()
-	f()
 }
